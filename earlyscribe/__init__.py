@@ -1,0 +1,1 @@
+"""Earlyscribe: machines that write as they read, brought to one plainest form."""

@@ -1,0 +1,30 @@
+"""The interface: names and arguments as they stand in the document."""
+
+import importlib
+import inspect
+import unittest
+
+FUNCTIONS = {
+    "earlyscribe.words": {"common_of": ["words"], "gap_of": ["one", "other"]},
+    "earlyscribe.scribes": {
+        "is_scribe": ["thing"],
+        "is_plain": ["scribe"],
+        "walked_by": ["scribe", "way"],
+        "written_for": ["scribe", "text"],
+        "all_written": ["scribe", "text"],
+    },
+}
+
+
+class Interface(unittest.TestCase):
+
+    def test_functions_and_their_arguments(self):
+        for module, functions in FUNCTIONS.items():
+            for name, arguments in functions.items():
+                with self.subTest(module=module, name=name):
+                    function = getattr(importlib.import_module(module), name)
+                    self.assertEqual(list(inspect.signature(function).parameters), arguments)
+
+
+if __name__ == "__main__":
+    unittest.main()
