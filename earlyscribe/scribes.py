@@ -96,6 +96,12 @@ def is_plain(scribe):
     return all_unlike([end[0] for end in scribe[ENDS]])
 
 
+def refuse_choices(scribe):
+    """Refuse a scribe that isn't plain."""
+    if not is_plain(scribe):
+        raise NotPlain("a plain scribe is asked for, and this one has choices")
+
+
 def part_at(parts, place):
     """The part of a list at a place that a way names."""
     # Below nought Python would count from the list's end.
@@ -142,8 +148,7 @@ def end_words_by_room(scribe):
 
 def written_for(scribe, text):
     """The word that a plain scribe writes for a text, or None where it writes none."""
-    if not is_plain(scribe):
-        raise NotPlain("a scribe with choices may write several words for a text")
+    refuse_choices(scribe)
     if scribe[BEGINS] == []:
         return None
     begin = scribe[BEGINS][0]

@@ -1,12 +1,33 @@
 """Scribes and askings that several tests use."""
 
 import copy
+import itertools
 import random
 
 # A plain one: an o to open with, an x for each a, a y for each b, never two b in a row, a z unless a b is last.
 ECHO = ("ab", 2, [(0, "o")], [(0, "a", "x", 0), (0, "b", "y", 1), (1, "a", "x", 0)], [(0, "z"), (1, "")])
 
 NO_ROOMS = ("ab", 0, [], [], [])
+
+# Plain ones that have rooms but write nothing for any text.
+NOTHING_WRITTEN = (
+    ("ba", 1, [], [], []),
+    ("ba", 2, [], [(0, "a", "x", 1)], [(1, "y")]),
+    ("ba", 2, [(0, "x")], [(0, "a", "", 1)], []),
+    ("ba", 2, [(0, "")], [(1, "a", "", 0)], [(1, "")]),
+)
+
+# Rooms 1, 2 and 5 are of use. No end can be come to from 0, 3 and 7, no begin leads to 4 and 6, and 8 has neither.
+MIXED = (
+    "ba", 9,
+    [(7, "t"), (5, "u")],
+    [(5, "b", "x", 0), (0, "a", "", 0), (5, "a", "xy", 2), (2, "b", "y", 1), (0, "b", "", 3), (4, "a", "z", 2),
+     (1, "a", "", 5), (4, "b", "", 4), (6, "a", "w", 4), (1, "b", "v", 1), (8, "a", "", 8)],
+    [(4, ""), (1, "p"), (2, "q")],
+)
+
+# The same with one begin alone: room 7 has neither then.
+PLAIN_MIXED = MIXED[:2] + ([(5, "u")],) + MIXED[3:]
 
 
 def left_as_it_was(test, ask, *handed):
@@ -15,6 +36,40 @@ def left_as_it_was(test, ask, *handed):
     answer = ask(*handed)
     test.assertEqual(handed, kept)
     return answer
+
+
+def lists_within(thing):
+    """All lists within a thing made of tuples and lists, the thing itself too."""
+    if isinstance(thing, (tuple, list)):
+        for part in thing:
+            yield from lists_within(part)
+    if isinstance(thing, list):
+        yield thing
+
+
+def told_as_own(test, ask, *handed):
+    """Ask, and see that the lists told are the asker's own, whatever is done to them or to what was handed in."""
+    handed = copy.deepcopy(handed)
+    kept = copy.deepcopy(handed)
+    told = ask(*handed)
+    answer = copy.deepcopy(told)
+    lists = list(lists_within(told)) + list(lists_within(handed))
+    test.assertEqual(len(set(map(id, lists))), len(lists), "a list stands at two places")
+    for part in lists_within(told):
+        part.clear()
+    test.assertEqual(handed, kept)
+    again = ask(*handed)
+    test.assertEqual(again, answer)
+    for part in lists_within(handed):
+        part.clear()
+    test.assertEqual(again, answer)
+    test.assertEqual(ask(*kept), answer)
+    return answer
+
+
+def texts_up_to(signs, most):
+    """All texts of some signs that have at most so many, the empty one first."""
+    return ["".join(text) for count in range(most + 1) for text in itertools.product(signs, repeat=count)]
 
 
 def some_scribes(count, seed):
@@ -30,6 +85,26 @@ def some_scribes(count, seed):
         yield ("ab", rooms, list(dict.fromkeys(begins)), list(dict.fromkeys(steps)), list(dict.fromkeys(ends)))
 
 
+def some_plain_scribes(count, seed, words=("", "a", "b", "ab", "aa", "aba"), most=3):
+    """Small plain scribes, the same ones each time."""
+    source = random.Random(seed)
+    for number in range(count):
+        rooms = source.randint(1, most)
+        begins = [(source.randrange(rooms), source.choice(words))] if source.random() < 0.95 else []
+        steps = [(room, sign, source.choice(words), source.randrange(rooms))
+                 for room in range(rooms) for sign in "ba" if source.random() < 0.7]
+        ends = [(room, source.choice(words)) for room in range(rooms) if source.random() < 0.6]
+        source.shuffle(steps)
+        source.shuffle(ends)
+        yield ("ba", rooms, begins, steps, ends)
+
+
+def row_scribe(rooms, word):
+    """A plain scribe whose rooms stand in one row, the end at the last one; each step writes the word."""
+    steps = [(room, "a", word, room + 1) for room in range(rooms - 1)]
+    return ("a", rooms, [(0, "")], steps, [(rooms - 1, "")])
+
+
 def all_ways(scribe, count):
     """All ways of a scribe with so many steps, found by trying every row."""
     signs, rooms, begins, steps, ends = scribe
@@ -39,3 +114,11 @@ def all_ways(scribe, count):
                 for begin, row, room in rows for place, step in enumerate(steps) if step[0] == room]
     return [(begin, row, end)
             for begin, row, room in rows for end, (last, word) in enumerate(ends) if last == room]
+
+
+def rooms_on_way(scribe, way):
+    """The rooms that a way comes through: where it begins, and those that its steps go from and to."""
+    rooms = [scribe[2][way[0]][0]]
+    for place in way[1]:
+        rooms += [scribe[3][place][0], scribe[3][place][3]]
+    return set(rooms)

@@ -13,6 +13,13 @@ FUNCTIONS = {
         "written_for": ["scribe", "text"],
         "all_written": ["scribe", "text"],
     },
+    "earlyscribe.trims": {
+        "useful_rooms": ["scribe"],
+        "way_through": ["scribe", "room"],
+        "trimmed_of": ["scribe"],
+    },
+    "earlyscribe.early": {"heads_of": ["scribe"], "earliest_of": ["scribe"]},
+    "earlyscribe.forms": {"plainest_of": ["scribe"]},
 }
 
 
