@@ -1,6 +1,6 @@
 """Scribes: what one is, what its ways read and write, and what it writes for a text."""
 
-from earlyscribe.errors import NotPlain, NoWay, TooMany
+from earlyscribe.errors import NotPlain, NoWay, OtherSigns, TooMany
 
 # Where the parts of a scribe stand in its tuple.
 SIGNS = 0
@@ -102,6 +102,18 @@ def refuse_choices(scribe):
         raise NotPlain("a plain scribe is asked for, and this one has choices")
 
 
+def refuse_other_signs(one, other):
+    """Refuse two scribes whose signs aren't the same text."""
+    if one[SIGNS] != other[SIGNS]:
+        raise OtherSigns("the signs of the two scribes aren't the same text")
+
+
+def refuse_many_pairs(one, other):
+    """Refuse two scribes that have more pairs of rooms than a scribe has rooms."""
+    if one[ROOMS] * other[ROOMS] > MOST_ROOMS:
+        raise TooMany("the two scribes have too many pairs of rooms")
+
+
 def part_at(parts, place):
     """The part of a list at a place that a way names."""
     # Below nought Python would count from the list's end.
@@ -146,26 +158,29 @@ def end_words_by_room(scribe):
     return found
 
 
-def written_for(scribe, text):
-    """The word that a plain scribe writes for a text, or None where it writes none."""
-    refuse_choices(scribe)
-    if scribe[BEGINS] == []:
-        return None
-    begin = scribe[BEGINS][0]
-    steps = steps_by_start(scribe)
-    ends = end_words_by_room(scribe)
-    room = begin[0]
-    written = [begin[1]]
+def read_from(steps, room, text):
+    """The room that a plain scribe comes to as it reads a text from a room on, and what it writes, or None."""
+    written = []
     for sign in text:
         if (room, sign) not in steps:
             return None
         step = steps[(room, sign)][0]
         written.append(step[2])
         room = step[3]
-    if room not in ends:
+    return (room, "".join(written))
+
+
+def written_for(scribe, text):
+    """The word that a plain scribe writes for a text, or None where it writes none."""
+    refuse_choices(scribe)
+    if scribe[BEGINS] == []:
         return None
-    written.append(ends[room][0])
-    return "".join(written)
+    begin = scribe[BEGINS][0]
+    read = read_from(steps_by_start(scribe), begin[0], text)
+    ends = end_words_by_room(scribe)
+    if read is None or read[0] not in ends:
+        return None
+    return begin[1] + read[1] + ends[read[0]][0]
 
 
 def refuse_many(pairs):

@@ -20,6 +20,9 @@ FUNCTIONS = {
     },
     "earlyscribe.early": {"heads_of": ["scribe"], "earliest_of": ["scribe"]},
     "earlyscribe.forms": {"plainest_of": ["scribe"]},
+    "earlyscribe.aparts": {"apart_text": ["one", "other"]},
+    "earlyscribe.joins": {"joined_behind": ["one", "other"]},
+    "earlyscribe.choices": {"two_ways": ["scribe"]},
 }
 
 

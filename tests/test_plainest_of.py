@@ -5,95 +5,14 @@ import os.path
 import random
 import unittest
 
-from samples import (ECHO, NO_ROOMS, NOTHING_WRITTEN, PLAIN_MIXED, left_as_it_was, row_scribe, some_plain_scribes,
-                     texts_up_to, told_as_own)
+from samples import (ECHO, NO_ROOMS, NOTHING_WRITTEN, PLAIN_MIXED, left_as_it_was, row_scribe, scribe_of_words,
+                     some_plain_scribes, texts_up_to, told_as_own, with_other_numbers, with_rooms_doubled,
+                     with_rooms_of_no_use, with_words_shifted)
 
 from earlyscribe.early import earliest_of, heads_of
 from earlyscribe.forms import plainest_of
 from earlyscribe.scribes import is_plain, is_scribe, written_for
 from earlyscribe.trims import useful_rooms
-
-
-def with_other_numbers(scribe, source):
-    """The same scribe with its rooms numbered otherwise and its lists in another order."""
-    signs, rooms, begins, steps, ends = scribe
-    number = list(range(rooms))
-    source.shuffle(number)
-    steps = [(number[start], sign, word, number[goal]) for start, sign, word, goal in steps]
-    ends = [(number[room], word) for room, word in ends]
-    source.shuffle(steps)
-    source.shuffle(ends)
-    return (signs, rooms, [(number[room], word) for room, word in begins], steps, ends)
-
-
-def with_rooms_doubled(scribe, source):
-    """A scribe with two rooms for each one, and each step going to either of the two."""
-    signs, rooms, begins, steps, ends = scribe
-
-    def either(room):
-        return room + rooms * source.randrange(2)
-
-    return (
-        signs, 2 * rooms,
-        [(either(room), word) for room, word in begins],
-        [(start + more, sign, word, either(goal)) for start, sign, word, goal in steps for more in (0, rooms)],
-        [(room + more, word) for room, word in ends for more in (0, rooms)])
-
-
-def with_rooms_of_no_use(scribe, source):
-    """A scribe with a room more that can't be left, and with one more to which no begin leads."""
-    signs, rooms, begins, steps, ends = scribe
-    taken = {step[:2] for step in steps}
-    lost = [(room, sign, "a", rooms) for room in range(rooms) for sign in signs if (room, sign) not in taken]
-    steps = steps + lost + [(rooms, signs[0], "b", rooms)]
-    steps += [(rooms + 1, sign, "ab", source.randrange(rooms + 2)) for sign in signs]
-    return (signs, rooms + 2, begins, steps, ends + [(rooms + 1, "b")])
-
-
-def with_letter_later(scribe, room, letter):
-    """A scribe that writes a letter behind a room and not ahead of it, or None where it can't."""
-    signs, rooms, begins, steps, ends = scribe
-    if any(at == room and not word.endswith(letter) for at, word in begins):
-        return None
-    told = []
-    for start, sign, word, goal in steps:
-        word = letter + word if start == room else word
-        if goal == room and not word.endswith(letter):
-            return None
-        told.append((start, sign, word[:-1] if goal == room else word, goal))
-    begins = [(at, word[:-1] if at == room else word) for at, word in begins]
-    return (signs, rooms, begins, told, [(at, letter + word if at == room else word) for at, word in ends])
-
-
-def with_letter_earlier(scribe, room, letter):
-    """A scribe that writes a letter ahead of a room and not behind it, or None where it can't."""
-    signs, rooms, begins, steps, ends = scribe
-    if any(at == room and not word.startswith(letter) for at, word in ends):
-        return None
-    told = []
-    for start, sign, word, goal in steps:
-        word = word + letter if goal == room else word
-        if start == room and not word.startswith(letter):
-            return None
-        told.append((start, sign, word[1:] if start == room else word, goal))
-    begins = [(at, word + letter if at == room else word) for at, word in begins]
-    return (signs, rooms, begins, told, [(at, word[1:] if at == room else word) for at, word in ends])
-
-
-def with_words_shifted(scribe, source):
-    """A scribe that writes some letters earlier and some later."""
-    for turn in range(3 * scribe[1]):
-        shift = source.choice([with_letter_later, with_letter_earlier])
-        scribe = shift(scribe, source.randrange(scribe[1]), source.choice("ab")) or scribe
-    return scribe
-
-
-def scribe_of_words(signs, words):
-    """A plain scribe that writes just the words of a dict, with a room for each beginning of a text."""
-    texts = sorted({text[:count] for text in words for count in range(len(text) + 1)} | {""})
-    number = texts.index
-    steps = [(number(text[:-1]), text[-1], "", number(text)) for text in texts if text]
-    return (signs, len(texts), [(number(""), "")], steps, [(number(text), words[text]) for text in words])
 
 
 def behaviours(words):
