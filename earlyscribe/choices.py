@@ -19,20 +19,35 @@ def refuse_many_rooms(scribe):
         raise TooMany("a scribe with choices may have no more than eight rooms")
 
 
+def two_of_each(keys):
+    """The places in a list at which a key stands for the first or the second time."""
+    counts = {}
+    places = []
+    for place, key in enumerate(keys):
+        counts[key] = counts.get(key, 0) + 1
+        if counts[key] <= 2:
+            places.append(place)
+    return places
+
+
 def doubled_marks(marks):
     """The begins or ends of a double: each two of the scribe's."""
+    # Two of one room have unlike words, so they show already whatever further ones of this room could.
+    places = two_of_each([mark[0] for mark in marks])
     doubled = []
-    for one, first in enumerate(marks):
-        for other, second in enumerate(marks):
+    for one in places:
+        first = marks[one]
+        for other in places:
+            second = marks[other]
             doubled.append(((first[0], second[0]), (one, other), (first[1], second[1])))
     return doubled
 
 
 def places_by_sign(steps):
-    """The places of the steps with each sign."""
+    """The places of the steps with each sign, no more than two of those between the same two rooms."""
     found = {}
-    for place, step in enumerate(steps):
-        found.setdefault(step[1], []).append(place)
+    for place in two_of_each([(step[OUT_OF], step[1], step[INTO]) for step in steps]):
+        found.setdefault(steps[place][1], []).append(place)
     return found
 
 

@@ -38,6 +38,16 @@ def left_as_it_was(test, ask, *handed):
     return answer
 
 
+def refused_with(test, error, ask, *handed):
+    """Ask, and see that it is refused with this class and no other one, and that nothing handed in has changed."""
+    kept = copy.deepcopy(handed)
+    with test.assertRaises(error) as caught:
+        ask(*handed)
+    test.assertIs(type(caught.exception), error)
+    test.assertEqual(handed, kept)
+    return caught.exception
+
+
 def lists_within(thing):
     """All lists within a thing made of tuples and lists, the thing itself too."""
     if isinstance(thing, (tuple, list)):
@@ -203,3 +213,22 @@ def scribe_of_words(signs, words):
     number = texts.index
     steps = [(number(text[:-1]), text[-1], "", number(text)) for text in texts if text]
     return (signs, len(texts), [(number(""), "")], steps, [(number(text), words[text]) for text in words])
+
+
+def side_by_side(one, other):
+    """The scribe of the rooms of both, with the begins, steps and ends of both."""
+    more = one[1]
+    return (one[0], more + other[1],
+            one[2] + [(room + more, word) for room, word in other[2]],
+            one[3] + [(start + more, sign, word, goal + more) for start, sign, word, goal in other[3]],
+            one[4] + [(room + more, word) for room, word in other[4]])
+
+
+def two_rounds(one_words, other_words, one_ends, other_ends, begins=("", "")):
+    """A scribe of two rounds, a begin at the first room of each; the words of their steps and their ends' words."""
+    def single(words, last_words, begin):
+        count = len(words)
+        steps = [(room, "a", word, (room + 1) % count) for room, word in enumerate(words)]
+        return ("a", count, [(0, begin)], steps, list(last_words.items()))
+
+    return side_by_side(single(one_words, one_ends, begins[0]), single(other_words, other_ends, begins[1]))

@@ -23,6 +23,14 @@ FUNCTIONS = {
     "earlyscribe.aparts": {"apart_text": ["one", "other"]},
     "earlyscribe.joins": {"joined_behind": ["one", "other"]},
     "earlyscribe.choices": {"two_ways": ["scribe"]},
+    "earlyscribe.makings": {"made_plain": ["scribe"]},
+    "earlyscribe.mirrors": {
+        "mirrored": ["scribe"],
+        "either_of": ["one", "other"],
+        "kept_to": ["scribe", "other"],
+    },
+    "earlyscribe.passes": {"first_way": ["scribe", "text"], "two_passes": ["scribe"]},
+    "earlyscribe.texts": {"shown_scribe": ["scribe"], "read_scribe": ["text"]},
 }
 
 

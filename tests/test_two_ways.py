@@ -4,9 +4,9 @@ import itertools
 import random
 import unittest
 
-from samples import (ECHO, MIXED, NO_ROOMS, NOTHING_WRITTEN, all_ways, left_as_it_was, row_scribe, some_plain_scribes,
-                     some_scribes, texts_up_to, told_as_own, with_other_numbers, with_rooms_of_no_use,
-                     with_words_shifted)
+from samples import (ECHO, MIXED, NO_ROOMS, NOTHING_WRITTEN, all_ways, left_as_it_was, row_scribe, side_by_side,
+                     some_plain_scribes, some_scribes, texts_up_to, told_as_own, two_rounds, with_other_numbers,
+                     with_rooms_of_no_use, with_words_shifted)
 
 from earlyscribe.choices import two_ways
 from earlyscribe.errors import TooMany
@@ -14,25 +14,6 @@ from earlyscribe.scribes import all_written, is_plain, walked_by, written_for
 from earlyscribe.trims import trimmed_of
 
 MOST_STEPS = 200
-
-
-def side_by_side(one, other):
-    """The scribe of the rooms of both, with the begins, steps and ends of both."""
-    more = one[1]
-    return (one[0], more + other[1],
-            one[2] + [(room + more, word) for room, word in other[2]],
-            one[3] + [(start + more, sign, word, goal + more) for start, sign, word, goal in other[3]],
-            one[4] + [(room + more, word) for room, word in other[4]])
-
-
-def two_rounds(one_words, other_words, one_ends, other_ends, begins=("", "")):
-    """A scribe of two rounds, a begin at the first room of each; the words of their steps and their ends' words."""
-    def single(words, last_words, begin):
-        count = len(words)
-        steps = [(room, "a", word, (room + 1) % count) for room, word in enumerate(words)]
-        return ("a", count, [(0, begin)], steps, list(last_words.items()))
-
-    return side_by_side(single(one_words, one_ends, begins[0]), single(other_words, other_ends, begins[1]))
 
 
 def texts_with_two_words(scribe, most):
@@ -295,6 +276,20 @@ class TwoWays(unittest.TestCase):
             for other in ((start, sign, word[1:], goal), (start, sign, word[1:] + "x", goal)):
                 self.two(("abcdef", 8, marks, steps[:place] + [other] + steps[place + 1:], marks))
                 self.two(("abcdef", 8, marks, steps + [other], marks))
+
+    def test_more_steps_than_are_handed_in_at_first(self):
+        # A scribe that was told may have thousands of steps: here each two rooms have a hundred for each sign.
+        words = ["x" * count for count in range(100)]
+        marks = [(room, word) for room in range(8) for word in words]
+        steps = [(start, sign, word, goal)
+                 for start in range(8) for goal in range(8) for sign in "ab" for word in words]
+        self.two(("ab", 8, marks, steps, marks))
+        self.two(("ab", 8, marks[:1], steps, marks[-1:]))
+        self.none(("ab", 8, [], steps, marks))
+        # Those rooms that have so many are of no use, for nothing leads from there to the room of the end.
+        steps = [step for step in steps if step[0] > 0 and step[3] > 0] + [(0, "a", "y", 0), (0, "a", "", 5)]
+        self.none(("ab", 8, [(0, "x")] + [mark for mark in marks if mark[0] > 0], steps, [(0, "")]))
+        self.two(("ab", 8, [(0, "x")], steps + [(7, "b", "", 0)], [(0, "")]))
 
     def test_longer_words_that_were_told(self):
         word = "ab" * 20000
